@@ -1,0 +1,1 @@
+"""Kindsure: records and choices that never come amiss."""
