@@ -25,7 +25,7 @@ def meeting(kind, other):
     pairs = all_pairs(top)
     # From the end, so that what the parts of a pair come to is known ahead of the pair.
     for pair in reversed(pairs):
-        pair.met = met_by(pair)
+        pair.met = met_of(pair.kind, pair.other, {name: part.met for name, part in pair.within.items()})
     if top.met is None:
         raise Unlike("these two kinds have no meeting")
     return top.met
@@ -128,7 +128,8 @@ def all_pairs(top):
     at = 0
     while at < len(pairs):
         pair = pairs[at]
-        pair.within = pairs_within(pair.kind, pair.other)
+        within = pairs_within(pair.kind, pair.other)
+        pair.within = {name: Pair(one, two) for name, (one, two) in within.items()}
         pairs.extend(list(pair.within.values()))
         at += 1
     return pairs
@@ -141,21 +142,21 @@ def pairs_within(kind, other):
     if make_of(kind) != make_of(other):
         return {}
     if make_of(kind) == "record":
-        return {name: Pair(mine[name], theirs[name]) for name in mine if name in theirs}
+        return {name: (mine[name], theirs[name]) for name in mine if name in theirs}
     # A shape of one side alone meets itself, so that what is told shares nothing with what was handed in.
     first = {**theirs, **mine}
     second = {**mine, **theirs}
-    return {name: Pair(first[name], second[name]) for name in second}
+    return {name: (first[name], second[name]) for name in second}
 
 
-def met_by(pair):
-    """The meeting of the pair, once that of every pair within it is known; None where there is none."""
-    make = make_of(pair.kind)
-    if make != make_of(pair.other):
+def met_of(kind, other, met):
+    """The meeting of two kinds, or None; met has that of every pair within, or None, by its name."""
+    make = make_of(kind)
+    if make != make_of(other):
         return None
     if make == "num" or make == "truth":
         return make
-    parts = {name: part.met for name, part in pair.within.items() if part.met is not None}
-    if make == "choice" and len(parts) < len(pair.within):
+    parts = {name: part for name, part in met.items() if part is not None}
+    if make == "choice" and len(parts) < len(met):
         return None
     return (make, parts)

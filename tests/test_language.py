@@ -10,6 +10,13 @@ BUILTINS = {
     "len", "range", "enumerate", "zip", "min", "max", "sum", "abs", "sorted", "reversed", "int", "str", "bool",
     "list", "tuple", "dict", "set", "isinstance", "ord", "repr", "any", "all", "divmod", "ValueError",
 }
+INTERFACE = {
+    "kinds": {"is_of": ["value", "kind"], "fits": ["kind", "other"], "meeting": ["kind", "other"]},
+    "judging": {"judged": ["deeds", "names", "tree"]},
+    "reckoning": {"reckoned": ["deeds", "names", "tree"]},
+}
+# What an own method or attribute may be called although builtin values have a method of that name (L26).
+FREE = {"add", "discard", "count", "index", "title", "find", "get", "join", "lower", "upper", "split", "strip", "copy"}
 MODULE_LEVEL = (ast.Expr, ast.ImportFrom, ast.FunctionDef, ast.ClassDef, ast.Assign)
 
 
@@ -82,6 +89,41 @@ class TheFiles(unittest.TestCase):
             used = {node.id for node in ast.walk(tree) if isinstance(node, ast.Name)}
             self.assertEqual((used & every) - BUILTINS, set(), path)
             self.assertEqual(bound_names(tree) & every, set(), path)
+
+    def test_own_methods_and_attributes_have_no_name_of_a_builtin_values_method(self):
+        taken = {name for kind in (str, int, list, dict, set, bytes) for name in dir(kind)} | {"args", "format", "mro"}
+        for path, tree in trees():
+            for node in ast.walk(tree):
+                if isinstance(node, ast.Attribute) and isinstance(node.ctx, ast.Store):
+                    self.assertNotIn(node.attr, taken - FREE, path)
+                elif isinstance(node, ast.ClassDef):
+                    own = {row.name for row in node.body if isinstance(row, ast.FunctionDef)} - {"__init__"}
+                    self.assertEqual(own & (taken - FREE), set(), path)
+
+    def test_is_stands_beside_none_true_and_false_alone(self):
+        for path, tree in trees():
+            for node in ast.walk(tree):
+                if isinstance(node, ast.Compare) and isinstance(node.ops[0], (ast.Is, ast.IsNot)):
+                    self.assertIsInstance(node.comparators[0], ast.Constant, path)
+
+    def test_no_two_files_import_from_each_other(self):
+        wanted = {}
+        for path, tree in trees():
+            found = [node.module for node in ast.walk(tree) if isinstance(node, ast.ImportFrom)]
+            wanted["kindsure." + path.stem] = set(found)
+        while wanted:
+            free = [name for name in wanted if not wanted[name] & set(wanted)]
+            self.assertTrue(free, wanted)
+            for name in free:
+                del wanted[name]
+
+    def test_the_functions_of_the_interface_are_defined_in_their_files(self):
+        for path, tree in trees():
+            defined = {node.name: node for node in tree.body if isinstance(node, ast.FunctionDef)}
+            for name, params in INTERFACE.get(path.stem, {}).items():
+                found = defined[name].args
+                self.assertEqual([param.arg for param in found.args], params, (path, name))
+                self.assertEqual((found.defaults, found.kwonlyargs, found.vararg, found.kwarg), ([], [], None, None))
 
 
 if __name__ == "__main__":
